@@ -1,0 +1,1 @@
+"""A city's lines for a day, under every course of delays."""

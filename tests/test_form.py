@@ -1,0 +1,199 @@
+"""The form of the package's files: what ../shared/LANGUAGE.md asks and a program can see."""
+
+import ast
+import inspect
+import importlib
+import os
+import unittest
+
+FOLDER = os.path.join(os.path.dirname(os.path.dirname(os.path.abspath(__file__))), "citylines")
+
+INTERFACE = {
+    "basics": ["is_integer(value)", "is_count(value)", "is_minute(value)", "clock_text(minute)", "clock_of(text)"],
+    "cities": [
+        "is_city(value)", "is_way_table(value)", "is_closed(value)", "closed(table)", "change_between(city, one, other)",
+        "walk_between(city, one, other)", "drive_between(city, one, other)",
+    ],
+    "lines": ["is_line(city, value)", "are_lines(city, value)", "least_between(line, first, last)"],
+}
+
+BUILTINS = """
+len range enumerate zip min max sum abs sorted reversed int str bool list tuple dict set isinstance ord repr any all divmod
+Exception ValueError TypeError KeyError IndexError LookupError ZeroDivisionError ArithmeticError OverflowError RuntimeError
+NotImplementedError
+""".split()
+
+NOT_NAMES = """
+mro elements open input law version_info with_traceback add_note register attrgetter breakpoint builtins compile copyright
+credits delattr dir eval exec exit gc getattr globals hasattr help id importlib license locals methodcaller os quit setattr
+super type vars sys typing enum
+""".split()
+
+METHODS = """
+append clear copy count endswith extend find get index insert isalnum isalpha isdigit islower isspace isupper items join keys
+ljust lower lstrip partition pop remove replace reverse rfind rjust rpartition rsplit rstrip setdefault split splitlines
+startswith strip update upper values zfill
+""".split()
+
+AT_THE_TOP = (ast.ImportFrom, ast.FunctionDef, ast.ClassDef, ast.Assign)
+
+NEVER = (
+    ast.AsyncFunctionDef, ast.AsyncFor, ast.AsyncWith, ast.Await, ast.Import, ast.Div, ast.Global, ast.AnnAssign,
+    ast.GeneratorExp, ast.Yield, ast.YieldFrom,
+)
+
+
+def files():
+    return sorted(name for name in os.listdir(FOLDER) if name != "__pycache__")
+
+
+def text_of(name):
+    with open(os.path.join(FOLDER, name), encoding="utf-8", newline="") as file:
+        return file.read()
+
+
+def tree_of(name):
+    return ast.parse(text_of(name))
+
+
+def bound_in(function):
+    """The names that a function binds: its parameters and all that it assigns."""
+    names = [argument.arg for argument in function.args.args]
+    for node in ast.walk(function):
+        if isinstance(node, ast.Name) and not isinstance(node.ctx, ast.Load):
+            names.append(node.id)
+        if isinstance(node, ast.ExceptHandler) and node.name:
+            names.append(node.name)
+    return names
+
+
+def bound_at_top(tree):
+    """For each name that a file binds at its top, the node that binds it."""
+    names = []
+    for node in tree.body:
+        if isinstance(node, (ast.FunctionDef, ast.ClassDef)):
+            names.append((node.name, node))
+        if isinstance(node, ast.ImportFrom):
+            names.extend((alias.name, node) for alias in node.names)
+        if isinstance(node, ast.Assign):
+            names.append((node.targets[0].id, node))
+    return names
+
+
+class Form(unittest.TestCase):
+    def test_files(self):
+        self.assertIn("__init__.py", files())
+        for name in files():
+            self.assertTrue(name.endswith(".py"), name)
+            self.assertEqual(name, name.lower())
+        self.assertLessEqual(len(files()), 100)
+        self.assertEqual(1, len(tree_of("__init__.py").body))
+
+    def test_sizes_and_characters(self):
+        for name in files():
+            lines = text_of(name).split("\n")
+            self.assertLessEqual(len(lines) - 1, 399, name)
+            self.assertEqual("", lines[-1], name)
+            for line in lines:
+                self.assertLessEqual(len(line), 120, name)
+                self.assertTrue(all(" " <= sign <= "~" for sign in line), (name, line))
+                self.assertEqual(line.rstrip(), line, name)
+            for node in ast.walk(tree_of(name)):
+                if isinstance(node, ast.FunctionDef):
+                    self.assertLessEqual(node.end_lineno - node.lineno + 1, 40, (name, node.name))
+
+    def test_what_stands_at_the_top(self):
+        for name in files():
+            body = tree_of(name).body
+            self.assertIsInstance(body[0].value.value, str, name)
+            for node in body[1:]:
+                self.assertIsInstance(node, AT_THE_TOP, name)
+                if isinstance(node, ast.Assign):
+                    self.assertEqual(1, len(node.targets))
+                    self.assertIsInstance(node.targets[0], ast.Name)
+                    ast.literal_eval(node.value)
+            names = [bound for bound, _ in bound_at_top(tree_of(name))]
+            self.assertEqual(len(set(names)), len(names), name)
+
+    def test_imports_name_the_file_that_defines_and_make_no_circle(self):
+        wants = {}
+        for name in files():
+            wants[name] = []
+            for node in ast.walk(tree_of(name)):
+                if isinstance(node, ast.ImportFrom):
+                    package, _, module = node.module.partition(".")
+                    self.assertEqual(("citylines", 0), (package, node.level), name)
+                    defines = dict(bound_at_top(tree_of(module + ".py")))
+                    for alias in node.names:
+                        self.assertIsNone(alias.asname)
+                        self.assertNotIsInstance(defines[alias.name], ast.ImportFrom, (name, alias.name))
+                    wants[name].append(module + ".py")
+        while wants:
+            free = [name for name in wants if not any(other in wants for other in wants[name])]
+            self.assertTrue(free, wants)
+            for name in free:
+                del wants[name]
+
+    def test_statements_and_values(self):
+        for name in files():
+            for node in ast.walk(tree_of(name)):
+                self.assertNotIsInstance(node, NEVER, name)
+                if isinstance(node, ast.Constant):
+                    self.assertNotIsInstance(node.value, (float, complex, bytes), name)
+                    self.assertFalse(isinstance(node.value, str) and "%" in node.value, name)
+                if isinstance(node, ast.FunctionDef):
+                    self.assertEqual([], node.decorator_list, name)
+                    self.assertIsNone(node.returns)
+                if isinstance(node, ast.Call) and isinstance(node.func, ast.Attribute):
+                    self.assertIn(node.func.attr, METHODS, name)
+                if isinstance(node, ast.Compare) and any(isinstance(sign, (ast.Is, ast.IsNot)) for sign in node.ops):
+                    self.assertIn(ast.unparse(node.comparators[0]), ("None", "True", "False"))
+
+    def test_names(self):
+        own = set()
+        for name in files():
+            tree = tree_of(name)
+            top = dict(bound_at_top(tree))
+            own.update(top)
+            barred = [bound for bound, node in top.items() if isinstance(node, (ast.ClassDef, ast.ImportFrom))]
+            for function in [node for node in ast.walk(tree) if isinstance(node, ast.FunctionDef)]:
+                bound = bound_in(function)
+                for word in bound:
+                    self.assertNotIn(word, barred, (name, function.name))
+                    self.assertNotIn(word, dir(__builtins__) if not isinstance(__builtins__, dict) else __builtins__)
+                for node in ast.walk(function):
+                    if isinstance(node, ast.Name) and isinstance(node.ctx, ast.Load):
+                        self.assertNotEqual("_", node.id, (name, function.name))
+                        known = node.id in bound or node.id in top or node.id in BUILTINS
+                        self.assertTrue(known, (name, function.name, node.id))
+            for node in ast.walk(tree):
+                words = [getattr(node, field, None) for field in ("id", "attr", "name", "arg")]
+                for word in words:
+                    self.assertNotIn(word, NOT_NAMES, name)
+        for word in own:
+            self.assertNotIn(word, __builtins__ if isinstance(__builtins__, dict) else dir(__builtins__))
+
+    def test_no_import_is_idle(self):
+        for name in files():
+            tree = tree_of(name)
+            used = {node.id for node in ast.walk(tree) if isinstance(node, ast.Name)}
+            for word, node in bound_at_top(tree):
+                if isinstance(node, ast.ImportFrom):
+                    self.assertIn(word, used, name)
+
+
+class Interface(unittest.TestCase):
+    def test_names_and_parameters(self):
+        for module, functions in INTERFACE.items():
+            held = importlib.import_module("citylines." + module)
+            for told in functions:
+                name, _, parameters = told.strip(")").partition("(")
+                function = getattr(held, name)
+                self.assertEqual("citylines." + module, function.__module__)
+                self.assertEqual(parameters.split(", "), list(inspect.signature(function).parameters), told)
+                for parameter in inspect.signature(function).parameters.values():
+                    self.assertIs(parameter.default, inspect.Parameter.empty)
+
+
+if __name__ == "__main__":
+    unittest.main()
