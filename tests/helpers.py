@@ -52,6 +52,21 @@ OTHERS = [
 
 CITY = ("city", (1, 1, 2), (2, 1, 3), ((0, 4, 9), (4, 0, 6), (9, 6, 0)), ((0, 3, 7), (3, 0, 5), (7, 5, 0)))
 
+# A city of four stops in which changes, walks and drives are all unlike, with lines and trips for blocks and duties.
+TOWN = (
+    "city", (1, 2, 3, 4), (2, 3, 1, 9),
+    ((0, 15, 27, 30), (15, 0, 18, 21), (27, 18, 0, 10), (30, 21, 10, 0)),
+    ((0, 5, 9, 12), (5, 0, 6, 10), (9, 6, 0, 7), (12, 10, 7, 0)),
+)
+TOWN_LINES = (
+    ("line", (0, 1, 2), (6, 7), (2,), 3), ("line", (2, 3, 1, 0), (8, 11, 5), (0, 4), 5),
+    ("line", (1, 3), (10,), (), 1), ("line", (2, 0), (9,), (), 2),
+)
+TOWN_TRIPS = (
+    ("trip", 0, (10, 20)), ("trip", 1, (40, 50, 66)), ("trip", 0, (30, 38)), ("trip", 2, (60,)), ("trip", 3, (100,)),
+    ("trip", 1, (90, 98, 113)),
+)
+
 NO_INTEGERS = [value for value in OTHERS if type(value) is not int]
 
 

@@ -25,7 +25,49 @@ LINES = """
 [True, False, 11, 6]
 """
 
-EXAMPLES = [("basics", BASICS), ("cities", CITIES), ("lines", LINES)]
+TRIPS = """
+>>> from citylines.trips import are_trips, beat, joined_trips, slacks, told_arrival, told_departure, trip_ahead
+>>> [beat(city, lines, 0, 60, 10, 2), beat(city, lines, 1, 70, 5, 1)]
+[(('trip', 0, (60, 65)), ('trip', 0, (70, 75))), (('trip', 1, (70,)),)]
+>>> trips = joined_trips(city, lines, beat(city, lines, 1, 70, 5, 1), beat(city, lines, 0, 60, 10, 2))
+>>> [len(trips), trips[2], trip_ahead(trips, 1), trip_ahead(trips, 2), told_departure(trips[1], 1), told_arrival(lines, trips[1], 1)]
+[3, ('trip', 1, (70,)), 0, None, 75, 81]
+>>> [are_trips(city, lines, trips), slacks(lines, ("trip", 0, (60, 72))), joined_trips(city, lines, trips, (("trip", 0, (62, 67)),))]
+[True, [7], None]
+"""
+
+BLOCKS = """
+>>> from citylines.blocks import block_place, charged, first_level, lack, levels, ready
+>>> bus = ("block", (0, 3), (4,), (50, (30, 40), 2))
+>>> [first_level(bus), lack(bus, 1, 20), ready(bus, 1, 20, 100), ready(bus, 1, 38, 100), charged(bus, 1, 20, 100, 113), charged(bus, 1, 20, 100, 120)]
+[20, 10, 110, 104, 6, 10]
+>>> held = ("block", (0, 1, 2), (0, 0), (20, (15, 10, 15), 1))
+>>> [ready(held, 2, 0, 120), ready(held, 2, 7, 127), levels(held, [(80, 100), (112, 127), (135, 150)]), block_place([bus, held], 2), block_place([bus, held], 9)]
+[135, 135, [5, 7, 0], (1, 2), None]
+"""
+
+DUTIES = """
+>>> from citylines.duties import duty_place, duty_rides, spans, stretches, there
+>>> day = ("duty", ((0, 0, 2), (1, 1, 1), (2, 0, 0)), (("walk", 3), ("rest", 30)))
+>>> [duty_rides(day), duty_place([day], 1, 1), duty_place([day], 1, 0), there(day, 1, 100), stretches(day), spans(day, [(60, 100), (104, 120), (155, 170)])]
+[[(0, 0), (0, 1), (0, 2), (1, 1), (2, 0)], (0, 1), None, 103, [(0, 1), (2, 2)], [(40, 40), (60, 60), (15, 110)]]
+"""
+
+MEETS = """
+>>> from citylines.meets import asks, in_vain, is_made, leaves, quiet, soonest
+>>> [leaves(12, [(0, 10 + late, 10, 1, 15, "news")]) for late in range(7)]
+[12, 12, 13, 14, 15, 12, 12]
+>>> [leaves(12, [(0, 10 + late, 10, 1, 15, "blind")]) for late in range(7)]
+[12, 12, 13, 14, 15, 15, 15]
+>>> far = (13, 16, 2, 1, 15, "news")
+>>> [soonest(far, 11), soonest(far, 12), soonest(far, 13), asks(far, 11), asks(far, 12), quiet(far), leaves(10, [far]), in_vain(10, [far]), in_vain(12, [far]), is_made(far, 17)]
+[15, 16, 17, True, False, 12, 12, [0], [], True]
+"""
+
+EXAMPLES = [
+    ("basics", BASICS), ("cities", CITIES), ("lines", LINES), ("trips", TRIPS), ("blocks", BLOCKS), ("duties", DUTIES),
+    ("meets", MEETS),
+]
 
 
 class Examples(unittest.TestCase):

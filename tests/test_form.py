@@ -15,6 +15,25 @@ INTERFACE = {
         "walk_between(city, one, other)", "drive_between(city, one, other)",
     ],
     "lines": ["is_line(city, value)", "are_lines(city, value)", "least_between(line, first, last)"],
+    "trips": [
+        "are_trips(city, lines, value)", "told_departure(trip, hop)", "told_arrival(lines, trip, hop)",
+        "slacks(lines, trip)", "trip_ahead(trips, trip)", "beat(city, lines, line, first, every, many)",
+        "joined_trips(city, lines, trips, other)",
+    ],
+    "blocks": [
+        "is_block(city, lines, trips, value)", "are_blocks(city, lines, trips, value)", "block_place(blocks, trip)",
+        "first_level(block)", "lack(block, place, level)", "ready(block, place, level, arrival)",
+        "charged(block, place, level, arrival, departure)", "levels(block, times)",
+    ],
+    "duties": [
+        "is_duty(city, lines, trips, value)", "are_duties(city, lines, trips, value)", "duty_place(duties, trip, hop)",
+        "duty_rides(duty)", "there(duty, place, arrival)", "stretches(duty)", "spans(duty, times)",
+    ],
+    "meets": [
+        "is_meet(city, lines, trips, value)", "are_meets(city, lines, trips, value)", "is_feed(value)",
+        "soonest(feed, minute)", "asks(feed, minute)", "quiet(feed)", "is_made(feed, departure)", "leaves(minute, feeds)",
+        "in_vain(minute, feeds)",
+    ],
 }
 
 BUILTINS = """
