@@ -309,6 +309,7 @@ class Feeds(Case):
         feed = (Few.ONE, Few.TWO, Few.ONE, Few.NONE, Few.ONE, "news")
         self.assert_told(0, quiet, feed)
         self.assert_told(1, quiet, put(feed, (5,), "blind"))
+        self.assert_told(2, quiet, (Few.TWO, 30, 6, 1, 24, "news"))
         self.assert_told(2, soonest, feed, Few.ONE)
         self.assert_told(2, leaves, Few.TWO, [feed])
         self.assert_told(1, leaves, Few.NONE, [put(feed, (5,), "blind")])
