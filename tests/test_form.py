@@ -1,8 +1,9 @@
 """The form of the package's files: what ../shared/LANGUAGE.md asks and a program can see."""
 
 import ast
-import inspect
+import builtins
 import importlib
+import inspect
 import os
 import unittest
 
@@ -179,7 +180,7 @@ class Form(unittest.TestCase):
                 bound = bound_in(function)
                 for word in bound:
                     self.assertNotIn(word, barred, (name, function.name))
-                    self.assertNotIn(word, dir(__builtins__) if not isinstance(__builtins__, dict) else __builtins__)
+                    self.assertNotIn(word, dir(builtins), (name, function.name))
                 for node in ast.walk(function):
                     if isinstance(node, ast.Name) and isinstance(node.ctx, ast.Load):
                         self.assertNotEqual("_", node.id, (name, function.name))
@@ -190,7 +191,7 @@ class Form(unittest.TestCase):
                 for word in words:
                     self.assertNotIn(word, NOT_NAMES, name)
         for word in own:
-            self.assertNotIn(word, __builtins__ if isinstance(__builtins__, dict) else dir(__builtins__))
+            self.assertNotIn(word, dir(builtins))
 
     def test_no_import_is_idle(self):
         for name in files():
