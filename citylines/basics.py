@@ -69,6 +69,18 @@ def is_time(value):
     return is_count(departure) and is_count(arrival) and departure <= arrival
 
 
+def plain(value):
+    """The same value of tuples, lists, INTEGERS, strings and None, of no class of their own."""
+    if isinstance(value, tuple):
+        return tuple([plain(part) for part in value])
+    if isinstance(value, list):
+        return [plain(part) for part in value]
+    if isinstance(value, str):
+        # A slice, as str of a string of a class of its own may tell something else.
+        return value[:]
+    return None if value is None else int(value)
+
+
 def clock_text(minute):
     """The clock of a MINUTE."""
     if not is_minute(minute):

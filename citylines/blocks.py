@@ -20,6 +20,11 @@ def is_block(city, lines, trips, value):
 def are_blocks(city, lines, trips, value):
     """Whether any value is a tuple of blocks, each trip in just one of them."""
     check_trips(city, lines, trips)
+    return are_blocks_of(city, lines, trips, value)
+
+
+def are_blocks_of(city, lines, trips, value):
+    """Whether any value is a tuple of blocks of what are known to be trips, each trip in just one of them."""
     if not isinstance(value, tuple):
         return False
     if not all([is_block_of(city, lines, trips, block) for block in value]):

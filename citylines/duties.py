@@ -19,6 +19,11 @@ def is_duty(city, lines, trips, value):
 def are_duties(city, lines, trips, value):
     """Whether any value is a tuple of duties, each ride of the trips in just one piece of all of them."""
     check_trips(city, lines, trips)
+    return are_duties_of(city, lines, trips, value)
+
+
+def are_duties_of(city, lines, trips, value):
+    """Whether any value is a tuple of duties of what are known to be trips, each ride in just one piece of all."""
     if not isinstance(value, tuple):
         return False
     if not all([is_duty_of(city, lines, trips, duty) for duty in value]):

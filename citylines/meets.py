@@ -19,6 +19,11 @@ def is_meet(city, lines, trips, value):
 def are_meets(city, lines, trips, value):
     """Whether any value is a tuple of at most 24 meets, no two of the same two rides."""
     check_trips(city, lines, trips)
+    return are_meets_of(city, lines, trips, value)
+
+
+def are_meets_of(city, lines, trips, value):
+    """Whether any value is a tuple of meets of what are known to be trips, no two of the same two rides."""
     if not is_tuple(value, 0, MOST_MEETS):
         return False
     if not all([is_meet_of(city, lines, trips, meet) for meet in value]):

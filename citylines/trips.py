@@ -58,6 +58,12 @@ def position_ahead(trips, at):
     return ahead[-1] if ahead else None
 
 
+def sequence_of(trips):
+    """The list of all rides, tuples (trip, hop), in the sequence."""
+    told = [(minute, trip, hop) for trip, own in enumerate(trips) for hop, minute in enumerate(own[2])]
+    return [(trip, hop) for _, trip, hop in sorted(told)]
+
+
 def is_ride(trips, trip, hop):
     """Whether any two values are the position of one of the trips, and a hop of it."""
     return is_within(trip, 0, len(trips) - 1) and is_hop(trips[trip], hop)

@@ -64,9 +64,61 @@ MEETS = """
 [15, 16, 17, True, False, 12, 12, [0], [], True]
 """
 
+PLANS = """
+>>> from citylines.plans import beside, is_plan, ride_at, rides, unsound, with_budget, with_part
+>>> city = ("city", (1, 1, 2), (0, 1, 0), ((0, 5, 9), (5, 0, 4), (9, 4, 0)), ((0, 2, 4), (2, 0, 2), (4, 2, 0)))
+>>> lines = (("line", (0, 1), (10,), (), 5), ("line", (1, 2), (8,), (), 5))
+>>> trips = (("trip", 0, (0,)), ("trip", 1, (12,)))
+>>> blocks = (("block", (0,), (), None), ("block", (1,), (), None))
+>>> duties = (("duty", ((0, 0, 0),), ()), ("duty", ((1, 0, 0),), ()))
+>>> meets, promises, delays = (("meet", 0, 0, 1, 0, 3, "news"),), (("leaves", 1, 0, 2),), (((9,), (0,)), 9)
+>>> small = ("plan", city, lines, trips, blocks, duties, meets, promises, delays, None, (), ())
+>>> [is_plan(small), rides(small), ride_at(small, 1, 0), unsound(small), unsound(small[:11])]
+[True, [(0, 0), (1, 0)], 1, None, 'form']
+>>> [unsound(small[:3] + ((("trip", 0, (0,)), ("trip", 1, (10,))),) + small[4:]), with_budget(small, 4)[8], rides(beside(small, small))]
+['meets', (((9,), (0,)), 4), [(0, 0), (2, 0), (1, 0), (3, 0)]]
+>>> with_part(small, "promises", ()) == small[:7] + ((),) + small[8:]
+True
+"""
+
+DAYS = """
+>>> from citylines.days import day, is_course, reasons, told_day
+>>> [is_course(small, [9, 0]), is_course(small, [0, 1]), is_course(small, [9]), told_day(small)]
+[True, False, False, ('day', ((0, 10), (12, 20)), (True,), ())]
+>>> [day(small, [3, 0]), day(small, [4, 0])]
+[('day', ((0, 13), (14, 22)), (True,), ()), ('day', ((0, 14), (15, 23)), (True,), ((1, 0, 1),))]
+>>> [day(small, [5, 0]), reasons(small, [4, 0], 1), reasons(small, [5, 0], 1)]
+[('day', ((0, 15), (12, 20)), (False,), ()), ([('meet', 0)], [('delay',)]), ([('told',)], [('delay',)])]
+"""
+
+FIELDS = """
+>>> from citylines.fields import fields, first_standing, standing, step
+>>> city = ("city", (1, 1, 1), (1, 1, 1), ((0, 5, 9), (5, 0, 5), (9, 5, 0)), ((0, 5, 9), (5, 0, 5), (9, 5, 0)))
+>>> lines = (("line", (0, 1), (10,), (), 5), ("line", (1, 2), (7,), (), 5))
+>>> trips = (("trip", 0, (0,)), ("trip", 1, (12,)))
+>>> vehicles = (("block", (0,), (), None), ("block", (1,), (), None))
+>>> drivers = (("duty", ((0, 0, 0),), ()), ("duty", ((1, 0, 0),), ()))
+>>> meets, promises = (("meet", 0, 0, 1, 0, 3, "news"),), (("leaves", 1, 0, 2),)
+>>> kept = ("plan", city, lines, trips, vehicles, drivers, meets, promises, (((5,), (0,)), 3), None, (), ())
+>>> late = ("plan", city, lines, trips, vehicles, drivers, meets, promises, (((5,), (0,)), 5), None, (), ())
+>>> [fields(kept, 0), fields(kept, 1), fields(kept, 2), first_standing(kept), standing(late, [4, 0], 1), standing(late, (4, 0), 2)]
+[[], [('end', 0), ('left', 0)], [], (), (4, 0), ()]
+>>> [step(late, 0, (), 4), step(late, 1, (3, 0), 0), step(late, 1, (4, 0), 0), step(late, 1, (5, 0), 0)]
+[((4, 0), (0, 14), (), ()), ((), (14, 21), (0,), ()), ((), (15, 22), (0,), ((0, 1),)), ((), (12, 19), (), ())]
+"""
+
+BOOKS = """
+>>> from citylines.books import book, is_book, reached
+>>> [reached(kept)[1], book(kept) == reached(kept), book(late), len(reached(late)[1])]
+[[((0, 0), 0), ((1, 0), 1), ((2, 0), 2), ((3, 0), 3)], True, None, 6]
+>>> some = [((0, 0), 0), ((1, 0), 0), ((2, 0), 2), ((3, 0), 3)]
+>>> [is_book(kept, [[((), 0)], one, [((), 0)]]) for one in [some, some + [((5, 0), 3)], some + [((4, 0), 3)], some[1:], [((0, 0), 1)] + some[1:]]]
+[True, True, False, False, False]
+"""
+
 EXAMPLES = [
     ("basics", BASICS), ("cities", CITIES), ("lines", LINES), ("trips", TRIPS), ("blocks", BLOCKS), ("duties", DUTIES),
-    ("meets", MEETS),
+    ("meets", MEETS), ("plans", PLANS), ("days", DAYS), ("fields", FIELDS), ("books", BOOKS),
 ]
 
 
