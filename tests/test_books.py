@@ -11,7 +11,7 @@ from reckon import Reckoned, courses, fields_at, let_bounds, prefixes, standing_
 from some_plans import (
     ROWS_4000, ROWS_4001, STEPS_40000, STEPS_40001, made, put_part, table_sizes, wide,
 )
-from told_plans import CASE_A, CASE_B, CASE_D, CHARGED, case_e, overview, plan_of
+from told_plans import CASE_A, CASE_B, CASE_D, CHARGED, SLACK, case_e, overview, plan_of
 
 UNSOUND = put_part(CASE_B, "promises", (("driven", 1, 29),))
 
@@ -56,7 +56,7 @@ class Reached(Case):
         self.assertGreater(broken, 15)
 
     def test_the_documents_plans(self):
-        for plan in (CASE_A, CASE_B, CASE_D, CHARGED, case_e(None), case_e((1, 1, 2)), overview()):
+        for plan in (CASE_A, CASE_B, CASE_D, CHARGED, SLACK, case_e(None), case_e((1, 1, 2)), overview()):
             tables, breaks = tables_by_courses(plan)
             self.assert_told(tables, reached, plan)
             self.assertIs(book(plan) is None, breaks)
@@ -223,6 +223,17 @@ class Books(Case):
         self.assert_told([[((1,), 0)], [((1, 0, 1), 1)], [((1,), 3)]], reached, plan)
         for row, told in ((((0, 0, 0), 2), True), (((0, 0, 0), 1), False)):
             self.assertIs(is_book(plan, put(tables, (1,), [row] + tables[1])), told)
+
+    def test_nothing_is_asked_of_what_is_not_let(self):
+        # Both ends stand in the table at 2. From (0,) with 2 the heard 2 minutes are beyond the budget.
+        plan = plan_of(
+            [((0, 1), (10,), ()), ((1, 2), (10,), ())], [(0, (0,)), (0, (20,)), (1, (60,))], bounds=((2,), (2,), (0,)), budget=3,
+            meets=(("meet", 0, 0, 2, 0, 0, "blind"), ("meet", 1, 0, 2, 0, 0, "blind")), heard=(1, 2),
+        )
+        tables = [[((), 0)], [((1, 0), 1)], [((1, 2), 3)], [((), 3)]]
+        self.assert_told(tables, reached, plan)
+        for number, told in ((2, True), (3, True), (1, False), (0, False)):
+            self.assertIs(is_book(plan, put(tables, (1,), [((0, 0), number)] + tables[1])), told)
 
     def test_a_book_of_one_minute_less_shows_the_least_course(self):
         self.assertIsNone(book(with_budget(overview(), 4)))

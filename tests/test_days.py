@@ -165,6 +165,13 @@ class Examples(Case):
         for late, taker in ((4, 15), (5, 15)):
             self.assertEqual(((0, 10 + late), (taker, taker + 7)), day(overview(way="blind"), [late, 0])[1])
 
+    def test_by_how_much_a_meet_is_missed(self):
+        # The walk is counted in.
+        plan = overview(promises=(("meets", 0),))
+        self.assert_told(("day", ((0, 15), (12, 19)), (False,), ((1, 0, 4),)), day, plan, [5, 0])
+        plan = overview(wait=0, promises=(("meets", 0),))
+        self.assert_told(("day", ((0, 12), (12, 19)), (False,), ((1, 0, 1),)), day, plan, [2, 0])
+
     def test_two_feeders(self):
         # Neither has left at 14; the one at 13 and the other one at 10; and both just then.
         both = day(TWO_FEEDERS, [8, 8, 0, 0, 0])
@@ -268,6 +275,8 @@ class Vehicles(Case):
             self.assertEqual([0, 20, 35], self.lefts(plan, [5, 0, 0]))
         self.assertEqual([0, 24, 39], self.lefts(self.charged((1, 0, 4)), [5, 0, 0]))
         self.assertEqual([0, 23, 37], self.lefts(self.charged((1, 0, 3)), [5, 0, 0]))
+        self.assertEqual([0, 24, 39], self.lefts(self.charged(remedies=((0, ("spare", 1, 4)),)), [5, 0, 0]))
+        self.assertEqual([0, 23, 37], self.lefts(self.charged(remedies=((0, ("spare", 1, 3)),)), [5, 0, 0]))
 
 
 class NotRun(Case):
@@ -330,6 +339,15 @@ class NotRun(Case):
         self.assertEqual((), day(cut, [9, 0])[3])
         tight = put_part(plan, "promises", (("long", 0, 20),))
         self.assertEqual(((1, 0, 9),), day(tight, [9, 0])[3])
+
+    def test_spans_break_at_the_ends_of_pieces_alone(self):
+        # Behind its first hop the piece has been under way 19 minutes, too, but it does not end there.
+        plan = plan_of(
+            [((0, 1, 2), (10, 2), (0,))], [(0, (0, 10))], promises=(("long", 0, 12), ("driven", 0, 12)), bounds=((9, 0),), budget=9,
+        )
+        self.assertEqual(((1, 0, 9), (1, 1, 9)), day(plan, [9, 0])[3])
+        parted = put_part(plan, "duties", (("duty", ((0, 0, 0),), ()), ("duty", ((0, 1, 1),), ())))
+        self.assertEqual(((0, 0, 7), (0, 1, 7)), day(parted, [9, 0])[3])
 
     def test_a_heard_ride_becomes_the_last_of_its_piece(self):
         # The stretch began at 0; at the end of the first hop the second piece has been 35 minutes under way, and 5 more.

@@ -116,9 +116,77 @@ BOOKS = """
 [True, True, False, False, False]
 """
 
+COURSES = """
+>>> from citylines.courses import breakable, greatest_late, is_breaking, least_course
+>>> three = ("city", (1, 1, 1), (0, 1, 0), ((0, 9, 18), (9, 0, 9), (18, 9, 0)), ((0, 5, 9), (5, 0, 5), (9, 5, 0)))
+>>> feeds, takes = ("line", (0, 1), (10,), (), 1), ("line", (1, 2), (10,), (), 1)
+>>> begun = ("plan", three, (feeds, takes), (("trip", 0, (0,)), ("trip", 1, (12,))))
+>>> begun = begun + ((("block", (0,), (), None), ("block", (1,), (), None)),)
+>>> begun = begun + ((("duty", ((0, 0, 0),), ()), ("duty", ((1, 0, 0),), ())),)
+>>> held = begun + ((("meet", 0, 0, 1, 0, 3, "news"),), (("leaves", 1, 0, 2),), (((5,), (0,)), 5), None, (), ())
+>>> [least_course(held), breakable(held), is_breaking(held, (4, 0)), is_breaking(held, [5, 0]), is_breaking(held, [6, 0])]
+[[4, 0], [[4, 0]], True, False, False]
+>>> [greatest_late(held, 0), greatest_late(held, 1)]
+[(5, [5, 0]), (3, [4, 0])]
+"""
+
+LEASTS = """
+>>> from citylines.leasts import are_alike, least_book, parting_course
+>>> [len(states) for states in least_book(held)]
+[1, 3]
+>>> least_book(held)[0]
+[((0, (), ()), (0, (), ()), (0, (), ()), (0, (), ()), (1, (), ()), (2, (), ()))]
+>>> least_book(held)[1]
+[((0, (0,), ()),), ((0, (0,), ((0, 1),)),), ((0, (), ()),)]
+>>> loose = held[:7] + ((("leaves", 1, 0, 3),),) + held[8:]
+>>> [least_course(loose), are_alike(held, loose), parting_course(held, loose), are_alike(held, held), parting_course(loose, loose)]
+[None, False, [4, 0], True, None]
+"""
+
+SIGNS = """
+>>> from citylines.signs import is_sign_book, late_news, misled, moment, news, said, sign_book, window
+>>> city = ("city", (1, 1, 1, 1), (0, 0, 0, 0), ((0, 9, 9, 9), (9, 0, 9, 9), (9, 9, 0, 1), (9, 9, 1, 0)), ((0, 5, 5, 5), (5, 0, 5, 5), (5, 5, 0, 5), (5, 5, 5, 0)))
+>>> lines, trips = (("line", (0, 1, 2), (5, 5), (0,), 1), ("line", (3, 0), (5,), (), 1)), (("trip", 0, (0, 5)), ("trip", 1, (12,)))
+>>> blocks, duties = (("block", (0,), (), None), ("block", (1,), (), None)), (("duty", ((0, 0, 1),), ()), ("duty", ((1, 0, 0),), ()))
+>>> plan = ("plan", city, lines, trips, blocks, duties, (("meet", 0, 1, 1, 0, 3, "news"),), (), (((3, 3), (0,)), 5), None, (), ())
+>>> [moment(plan, [2, 3, 0], many) for many in range(4)], window(plan, [2, 3, 0], 1, 2), [said(plan, [2, 3, 0], many, 2, "now") for many in range(3)]
+([0, 0, 7, 12], (12, 15), [12, 13, 12])
+>>> [misled(plan, 2), news(plan, [1, 1, 0], 2), late_news(plan, 2, 7), late_news(plan, 2, 4)]
+[[2, 3, 0], [(2, 12, 13)], [1, 1, 0], None]
+>>> is_sign_book(plan, 2, "least", 4, sign_book(plan, 2, "least", 4)), sign_book(plan, 2, "now", 0)
+(True, None)
+"""
+
+RIDERS = """
+>>> from citylines.riders import arrival, is_sure_book, is_way, late_course, places, ridden, sure_book, surely_by
+>>> city = ("city", (1, 1, 1), (2, 2, 2), ((0, 20, 30), (20, 0, 20), (30, 20, 0)), ((0, 4, 6), (4, 0, 4), (6, 4, 0)))
+>>> lines = (("line", (0, 1), (5,), (), 3), ("line", (1, 2), (5,), (), 3))
+>>> trips = (("trip", 0, (10,)), ("trip", 1, (18,)), ("trip", 1, (30,)))
+>>> blocks = (("block", (0,), (), None), ("block", (1,), (), None), ("block", (2,), (), None))
+>>> duties = (("duty", ((0, 0, 0),), ()), ("duty", ((1, 0, 0),), ()), ("duty", ((2, 0, 0),), ()))
+>>> trio = ("plan", city, lines, trips, blocks, duties, (("meet", 0, 0, 1, 0, 2, "blind"),), (), (((4,), (0,), (0,)), 4), None, (), ())
+>>> way = (0, 10, ("ride", 0, 1, ("ride", 1, 2, ("there",))))
+>>> [is_way(trio, way), arrival(trio, [0, 0, 0], way), arrival(trio, [3, 0, 0], way), arrival(trio, [4, 0, 0], way)]
+[True, 23, 25, 35]
+>>> [ridden(trio, [4, 0, 0], way), surely_by(trio, way), late_course(trio, way, 23), late_course(trio, way, 35)]
+[[(0, 0, 0), (2, 0, 0)], (35, [4, 0, 0]), [2, 0, 0], None]
+>>> places(trio, [2, 0, 0], way)
+[('at', 10, 0), ('at', 19, 1), ('there', 24), ('there', 24)]
+>>> sure = sure_book(trio, way, 35)
+>>> [sure[1][0], sure[2]]
+[((0,), ('at', 17, 1), 0), [((0, 0), ('there', 23), 0), ((1, 1), ('there', 24), 2), ((2, 2), ('at', 21, 1), 4), ((2, 2), ('there', 25), 3)]]
+>>> [is_sure_book(trio, way, 35, sure), is_sure_book(trio, way, 34, sure), sure_book(trio, way, 34)]
+[True, False, None]
+>>> late = ("ride", 1, 2, ("there",))
+>>> either = (0, 10, ("ride", 0, 1, ("by", 18, late, ("walk", 2, ("there",)))))
+>>> [arrival(trio, [3, 0, 0], either), arrival(trio, [4, 0, 0], either), arrival(trio, [0, 0, 0], (0, 11, way[2])), is_way(trio, (2, 10, late))]
+[25, 39, None, False]
+"""
+
 EXAMPLES = [
     ("basics", BASICS), ("cities", CITIES), ("lines", LINES), ("trips", TRIPS), ("blocks", BLOCKS), ("duties", DUTIES),
     ("meets", MEETS), ("plans", PLANS), ("days", DAYS), ("fields", FIELDS), ("books", BOOKS),
+    ("courses", COURSES), ("leasts", LEASTS), ("signs", SIGNS), ("riders", RIDERS),
 ]
 
 

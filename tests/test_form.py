@@ -44,6 +44,19 @@ INTERFACE = {
         "fields(plan, many)", "first_standing(plan)", "standing(plan, course, many)", "step(plan, many, standing, delay)",
     ],
     "books": ["reached(plan)", "book(plan)", "is_book(plan, value)"],
+    "courses": ["least_course(plan)", "is_breaking(plan, value)", "breakable(plan)", "greatest_late(plan, ride)"],
+    "leasts": ["least_book(plan)", "are_alike(plan, other)", "parting_course(plan, other)"],
+    "signs": [
+        "moment(plan, course, many)", "window(plan, course, many, ride)", "said(plan, course, many, ride, word)",
+        "news(plan, course, ride)", "late_news(plan, ride, notice)", "misled(plan, ride)",
+        "is_misleading(plan, ride, word, notice, value)", "sign_book(plan, ride, word, notice)",
+        "is_sign_book(plan, ride, word, notice, value)",
+    ],
+    "riders": [
+        "is_way(plan, value)", "arrival(plan, course, way)", "places(plan, course, way)", "ridden(plan, course, way)",
+        "surely_by(plan, way)", "late_course(plan, way, minute)", "is_late_course(plan, way, minute, value)",
+        "sure_book(plan, way, minute)", "is_sure_book(plan, way, minute, value)",
+    ],
 }
 
 BUILTINS = """
@@ -86,6 +99,16 @@ def text_of(name):
 
 def tree_of(name):
     return ast.parse(text_of(name))
+
+
+def own_methods():
+    """The names of all methods that the package defines; none of them is the name of an attribute, too."""
+    names = []
+    for name in files():
+        for made in ast.walk(tree_of(name)):
+            if isinstance(made, ast.ClassDef):
+                names.extend(node.name for node in made.body if isinstance(node, ast.FunctionDef))
+    return names
 
 
 def bound_in(function):
@@ -179,7 +202,7 @@ class Form(unittest.TestCase):
                     self.assertEqual([], node.decorator_list, name)
                     self.assertIsNone(node.returns)
                 if isinstance(node, ast.Call) and isinstance(node.func, ast.Attribute):
-                    self.assertIn(node.func.attr, METHODS, name)
+                    self.assertIn(node.func.attr, METHODS + own_methods(), name)
                 if isinstance(node, ast.Compare) and any(isinstance(sign, (ast.Is, ast.IsNot)) for sign in node.ops):
                     self.assertIn(ast.unparse(node.comparators[0]), ("None", "True", "False"))
 
@@ -206,6 +229,21 @@ class Form(unittest.TestCase):
                     self.assertNotIn(word, NOT_NAMES, name)
         for word in own:
             self.assertNotIn(word, OF_PYTHON)
+
+    def test_attributes(self):
+        stored, methods = set(), set(own_methods()) - {"__init__"}
+        for name in files():
+            for node in ast.walk(tree_of(name)):
+                if isinstance(node, ast.Attribute) and not isinstance(node.ctx, ast.Load):
+                    stored.add(node.attr)
+        for word in stored | methods:
+            for kind in (int, str, list, tuple, dict, set, bytes):
+                self.assertFalse(hasattr(kind, word) and word not in ("count", "index", "copy"), word)
+        self.assertFalse(stored & methods)
+        for name in files():
+            for node in ast.walk(tree_of(name)):
+                if isinstance(node, ast.Attribute) and isinstance(node.ctx, ast.Load) and node.attr not in METHODS:
+                    self.assertIn(node.attr, stored | methods, name)
 
     def test_no_import_is_idle(self):
         for name in files():

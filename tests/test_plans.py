@@ -237,7 +237,7 @@ class Limits(Case):
         rows = [("trip", 0, tuple(range(hops)))] + [("trip", 1 % lines, (20 + 10 * at,)) for at in range(trips - 1)]
         if lines == 1:
             rows = [("trip", 0, tuple(20 * at + hop for hop in range(hops))) for at in range(trips)]
-        blocks = tuple(("block", (at,), (), None) for at in range(trips))
+        blocks = (("block", tuple(range(trips)), (1,) * (trips - 1), None),)
         duties = tuple(("duty", ((at, 0, len(row[2]) - 1),), ()) for at, row in enumerate(rows))
         pairs = itertools.combinations(range(trips), 2)
         found = tuple(("meet", one, 0, other, 0, 0, "blind") for one, other in pairs)[:meets]

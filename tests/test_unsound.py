@@ -230,6 +230,17 @@ class Told(Word):
                 turns = (0,) * at + (turn,) + (0,) * (2 - at)
                 self.assert_word(word, plan_of(lines, trips, blocks=(("block", (0, 1, 2, 3), turns, None),)))
 
+    def test_one_of_several(self):
+        lines, trips = [((0, 1), (5,), ()), ((1, 0), (5,), ())], [(at % 2, (20 * at,)) for at in range(6)]
+        for late in (None, 0, 1, 2):
+            for minutes in (15, 16):
+                turns = [minutes if at == late else 15 for at in range(3)]
+                blocks = tuple(("block", (2 * at, 2 * at + 1), (turn,), None) for at, turn in enumerate(turns))
+                duties = tuple(("duty", ((2 * at, 0, 0), (2 * at + 1, 0, 0)), (("walk", turn),)) for at, turn in enumerate(turns))
+                word = None if late is None or minutes == 15 else "told"
+                self.assert_word(word, plan_of(lines, trips, blocks=blocks))
+                self.assert_word(word, plan_of(lines, trips, duties=duties))
+
     def test_batteries(self):
         lines, trips = [((0, 1), (5,), ()), ((1, 0), (5,), ())], [(0, (0,)), (1, (10,)), (0, (20,))]
         # The level is 20 less 12, and 5 minutes of 2; 18 less 13 is 5, and 10 more.
