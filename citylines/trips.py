@@ -143,8 +143,8 @@ def joined_trips(city, lines, trips, other):
     check_trips(city, lines, other)
     if len(trips) + len(other) > MOST_TRIPS:
         raise TooMany("trips", MOST_TRIPS)
-    both = sorted([plain_trip(trip) for trip in [*trips, *other]], key=lambda trip: (trip[1], trip[2][0]))
-    joined = tuple(both)
+    # As tuples they stand by lines, those of a line by first told departures.
+    joined = tuple(sorted([plain_trip(trip) for trip in [*trips, *other]]))
     return joined if are_trips_of(lines, joined) else None
 
 

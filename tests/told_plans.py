@@ -65,7 +65,7 @@ CASE_B = plan_of(
 CASE_C = overview()
 # Two feeders, the second one told to come two minutes sooner: its third minute is worth the first one's first one.
 SLACK = plan_of(
-    [((0, 1), (10,), ()), ((2, 1), (10,), ()), ((1, 3, 0), (10, 10), (0,))], [(0, (2,)), (1, (0,)), (2, (12, 22))],
+    [((0, 1), (10,), ()), ((2, 1), (5,), ()), ((1, 3, 0), (10, 10), (0,))], [(0, (2,)), (1, (5,)), (2, (12, 22))],
     meets=(("meet", 0, 0, 2, 0, 9, "blind"), ("meet", 1, 0, 2, 0, 9, "blind")), promises=(("ends", 2, 0), ("leaves", 2, 1, 1)),
     bounds=((3,), (5,), (0, 0)), budget=6,
 )
