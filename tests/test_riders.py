@@ -111,6 +111,19 @@ class Ways(Case):
         for deep in range(1, 14, 2):
             self.assertIs(is_way(TRIO, (0, 0, deep_route(deep, ends))), deep <= 11)
 
+    def test_rides_count_as_deep_and_as_parts(self):
+        plan = plan_of([((0, 1), (5,), ()), ((1, 0), (5,), ())], [(0, (0,)), (1, (9,))])
+        for many in range(1, 15):
+            route = THERE
+            for at in range(many - 1, 0, -1):
+                route = ("ride", (at + 1) % 2, at % 2, route)
+            self.assertEqual(many, len(parts(route)))
+            self.assertIs(is_way(plan, (0, 0, route)), many <= 12)
+            self.assertIs(is_way(plan, (0, 0, ("by", 9, THERE, route))), many <= 11)
+            for more in range(16, 32):
+                self.assertIs(is_way(plan, (0, 0, ("by", 9, route, many_parts(more)))), many <= 11 and many + more <= 29)
+                self.assertIs(is_way(plan, (0, 0, ("by", 9, many_parts(more), route))), many <= 11 and many + more <= 29)
+
     def test_thirty_parts(self):
         for many in range(1, 45):
             self.assertEqual(many, len(parts(many_parts(many))))
@@ -303,6 +316,19 @@ class Sure(Case):
         self.assert_sure(TRIO, WAY)
         self.assert_told((35, [4, 0, 0]), surely_by, TRIO, WAY)
         self.assert_sure(TRIO, (0, 10, ("ride", 0, 1, ("by", 18, LATE, ("walk", 2, THERE)))))
+
+    def test_stranded_without_a_delay_alone(self):
+        # The rider comes two minutes late for the trip, which is as late if its vehicle is.
+        plan = plan_of(
+            [((0, 1), (5,), ()), ((1, 2), (5,), ())], [(0, (0,)), (1, (5,))], blocks=(("block", (0, 1), (0,), None),),
+            bounds=((4,), (0,)), budget=4,
+        )
+        way = (1, 7, ("ride", 1, 2, THERE))
+        self.assertEqual([None, None, 12, 13, 14], [arrival(plan, [late, 0], way) for late in range(5)])
+        self.assert_told((None, [0, 0]), surely_by, plan, way)
+        self.assert_told([0, 0], late_course, plan, way, 99)
+        self.assert_sure(plan, way)
+        self.assert_told((14, [4, 0]), surely_by, put_part(plan, "heard", (4,)), way)
 
     def test_what_is_heard(self):
         for late, told in ((0, 23), (3, 25), (4, 35)):
@@ -503,6 +529,7 @@ class Books(Case):
             (("at", -1, 1), ("at", 0, 1)), (("at", True, 1), ("at", 1, 1)), (("at", 20, True), ("at", 20, 1)), (("at", 20), ("at", 20, 1)),
             (("At", 20, 1), ("at", 20, 1)), (("there", -1), ("there", 0)), (("there", False), ("there", 0)), (("there",), ("there", 0)),
             (("there", 5, 1), ("there", 5)), (["there", 5], ("there", 5)), (["at", 20, 1], ("at", 20, 1)), (("gone", 5), ("there", 5)),
+            (("gone", 1, 1), ("in", 1, 1)), (("there", 1, 1), ("in", 1, 1)), (("At", 20, 1), ("at", 20, 1)), (("AT", 1, 1), ("in", 1, 1)),
         ):
             more = self.with_row(plan, WAY, book, (held, near, 0))
             self.assertIs(is_sure_book(plan, WAY, 99, more), True, near)
@@ -510,6 +537,20 @@ class Books(Case):
                 if near in [row[1] for row in more[many]]:
                     at = [row[1] for row in more[many]].index(near)
                     self.assertIs(is_sure_book(plan, WAY, 99, put(more, (many, at, 1), place)), False, place)
+
+    def test_a_rider_in_a_trip_that_is_not_run(self):
+        plan = plan_of(
+            [((0, 1, 2), (5, 5), (0,))], [(0, (0, 5)), (0, (10, 15)), (0, (20, 25))], remedies=((0, ("cut", 1, 0)), (0, ("drop", 2))),
+        )
+        way = (0, 0, ("ride", 0, 2, THERE))
+        book = sure_book(plan, way, 10)
+        self.assert_yes(is_sure_book, plan, way, 10, book)
+        for at in range(7):
+            held = book[at][0][0]
+            for place in (("in", 1, 0), ("in", 2, 0), ("at", 1, 0)):
+                self.assertIs(is_sure_book(plan, way, 10, put(book, (at,), sorted(book[at] + [(held, place, 0)]))), False)
+                stays = book[:at] + [sorted(rows + [(rows[0][0], place, 0)]) for rows in book[at:]]
+                self.assertIs(is_sure_book(plan, way, 10, stays), False)
 
     def test_tuples_for_lists_and_lists_for_tuples(self):
         for plan, way, minute, book in self.some():
