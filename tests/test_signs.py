@@ -479,6 +479,20 @@ class Books(Case):
             rows = [((), 5, stairs, 0)]
             self.assertIs(is_sign_book(plan, 2, "now", 0, put(book, (0,), sorted(book[0] + rows, key=lambda row: row[1]))), False)
 
+    def test_stairs_of_rows_that_no_course_comes_to(self):
+        # A pair of a later moment than the row's own; what comes of it stands ahead of it.
+        plan = put_part(FREED, "meets", ())
+        book = sign_book(plan, 2, "now", 0)
+        more = [sorted(rows + [row[:2] + (row[2] + ((50, 60),), row[3]) for row in rows]) for rows in book]
+        more[0] = sorted(book[0] + [((), 0, ((50, 60),), 0)])
+        self.assertIs(is_sign_book(plan, 2, "now", 0, more), True)
+        self.assertEqual(((0, 12), (50, 60)), more[1][1][2])
+        # Another one that makes it needless: of no later moment, and no lesser minute.
+        more[0] = sorted(book[0] + [((), 0, ((0, 11), (50, 60)), 0)])
+        self.assertIs(is_sign_book(plan, 2, "now", 0, more), True)
+        more[0] = sorted(book[0] + [((), 0, ((0, 13), (50, 60)), 0)])
+        self.assertIs(is_sign_book(plan, 2, "now", 0, more), False)
+
     def test_a_book_of_another_notice(self):
         book = sign_book(FREED, 2, "least", 0)
         for notice in range(12):
