@@ -467,6 +467,16 @@ class Books(Case):
                 if len(rows) > 1:
                     self.assertIs(is_sure_book(plan, way, minute, put(book, (at,), rows[::-1])), False)
 
+    def test_rows_of_other_lengths_and_rows_twice(self):
+        for plan, way, minute, book in self.some():
+            for at, rows in enumerate(book):
+                for row in range(min(3, len(rows))):
+                    for other in (rows[row] + (0,), rows[row][:2], rows[row] + rows[row]):
+                        self.assertIs(is_sure_book(plan, way, minute, put(book, (at, row), other)), False)
+                    if rows[row][2] > 0:
+                        twice = sorted(rows + [rows[row][:2] + (rows[row][2] - 1,)])
+                        self.assertIs(is_sure_book(plan, way, minute, put(book, (at,), twice)), False)
+
     def test_numbers_one_more_or_less(self):
         for plan, way, minute, book in self.some():
             for at, rows in enumerate(book):

@@ -10,7 +10,7 @@ from citylines.signs import is_misleading, is_sign_book, late_news, misled, mome
 from helpers import Case, Few, NO_INTEGERS, OTHERS, listed, paths, put
 from reckon import Reckoned, all_rides, courses, least_of, let_bounds
 from some_plans import made, put_part, table_sizes, wide
-from told_plans import CASE_B, CASE_D, CHARGED, TWO_FEEDERS, case_e, overview, plan_of
+from told_plans import CASE_B, CASE_D, CHARGED, TWO_FEEDERS, alone, case_e, overview, plan_of
 
 UNSOUND = put_part(CASE_B, "promises", (("driven", 1, 29),))
 # The plan of the interface: a feeder of two rides, of which the first one lets the taker wait, the second one sets it free.
@@ -212,6 +212,20 @@ class ByHand(Case):
         self.assert_told([0, 1, 0], late_news, later, 2, 60)
         self.assert_told([6, 0, 0], late_news, put_part(plan, "heard", (6,))[:10] + ((), ()), 1, 60)
 
+    def test_now_misleads_at_the_very_minute_of_the_departure(self):
+        # The third ride leaves at 16 behind 14 minutes of its vehicle: then "now" says 17, and the last one leaves at 16.
+        plan = plan_of(
+            [((0, 1, 2), (1, 1), (0,)), ((2, 3), (5,), ()), ((0, 1, 2), (5, 5), (0,)), ((3, 0), (5,), ())],
+            [(0, (0, 1)), (1, (3,)), (2, (4, 9)), (3, (16,))], blocks=alone((0, 1), (2,), (3,)),
+            meets=(("meet", 2, 1, 3, 0, 3, "news"),), bounds=((9, 9), (0,), (3, 3), (0,)), budget=20, walk=1,
+        )
+        for second, told in ((4, True), (5, True), (6, False)):
+            course = [9, second, 0, 2, 3, 0]
+            self.assertEqual(11 + second, moment(plan, course, 4))
+            self.assertEqual(17, said(plan, course, 4, 5, "now"))
+            self.assertEqual((16, 16), window(plan, course, 5, 5))
+            self.assertIs(is_misleading(plan, 5, "now", 0, course), told)
+
     def test_first_ride(self):
         self.assert_told((0, 0), window, FREED, [0, 0, 0], 0, 0)
         self.assert_told([], news, FREED, [1, 0, 0], 0)
@@ -342,7 +356,7 @@ class Books(Case):
     def test_numbers_one_more_or_less(self):
         for plan, ride, word, notice, book in self.cases():
             for path in paths(book):
-                if len(path) < 3 or not isinstance(self.part(book, path), int) or path[1] > 2:
+                if len(path) < 3 or not isinstance(self.part(book, path), int) or path[1] > 1:
                     continue
                 for add in (-1, 1):
                     other = put(book, path, self.part(book, path) + add)
@@ -469,15 +483,54 @@ class Books(Case):
                         self.assertIs(is_sign_book(plan, ride, word, notice, other), False)
 
     def test_pairs_that_are_none(self):
+        # Rows with these pairs in all lists, so that what comes of each is there; the first pair makes all new ones needless.
         plan = put_part(FREED, "meets", ())
         book = sign_book(plan, 2, "now", 0)
         self.assertEqual(((), 0, ((0, 12),), 0), book[0][0])
-        for stairs in (
-            ((12, 12),), ((13, 12),), ((0, 12, 0),), ((0,),), (0, 12), ([0, 12],), ((True, 12),), ((0, True),), ((-1, 12),),
-            ((0, 12), (0, 12)), ((0, 12), (1, 12)), ((0, 12), (0, 13)), ((1, 13), (0, 12)), ((0, 13), (1, 12)), [(0, 12)], None,
+        for pairs, told in (
+            ((), True), (((20, 30),), True), (((20, 30), (21, 31)), True), (((0, 12),), False), (((20, 30), (20, 31)), False),
+            (((20, 30), (21, 30)), False), (((20, 30), (21, 29)), False), (((20, 20),), False), (((20, 19),), False), (((20, 30, 0),), False),
+            (((20,),), False), ((20, 30), False), (([20, 30],), False), (((20, True),), False), (((20, "a"),), False), (((20, None),), False),
+            (((True, 30),), False), (((None, 30),), False), ((None,), False), (((20, 30), (25, 26)), False), (((21, 31), (20, 30)), False),
         ):
-            rows = [((), 5, stairs, 0)]
-            self.assertIs(is_sign_book(plan, 2, "now", 0, put(book, (0,), sorted(book[0] + rows, key=lambda row: row[1]))), False)
+            stairs = ((0, 12),) + pairs
+            more = [rows + [row[:2] + (stairs, row[3]) for row in rows if stairs != ((0, 12),)] for rows in book]
+            try:
+                more = [sorted(rows) for rows in more]
+            except TypeError:
+                more = [sorted(rows, key=lambda row: (row[:2], row[2] != ((0, 12),), row[3])) for rows in more]
+            if pairs == ((0, 12),):
+                self.assertEqual(((0, 12), (0, 12)), more[0][1][2])
+            self.assertIs(is_sign_book(plan, 2, "now", 0, more), told, pairs)
+        early = ((-5, -1), (0, 12))
+        more = [sorted(rows + [row[:2] + (early, row[3]) for row in rows]) for rows in book]
+        self.assertIs(is_sign_book(plan, 2, "now", 0, more), False)
+        listed_stairs = [sorted(rows[:-1]) + [rows[-1][:2] + (list(rows[-1][2]), rows[-1][3])] for rows in book]
+        self.assertIs(is_sign_book(plan, 2, "now", 0, listed_stairs), False)
+
+    def test_numbers_below_0_in_the_last_list(self):
+        # Behind which nothing comes.
+        for word, rows, told in (
+            ("least", ((), 0, 12, 12), True), ("least", ((), -1, 12, 12), False), ("least", ((), 0, -1, 12), False),
+            ("least", ((), 5, 12, 12), True), ("least", ((), 6, 12, 12), False), ("least", ((), 5, 12, 13), False), ("least", ((), 5, 12, 11), False),
+            ("now", ((), 90, (), 0), True), ("now", ((), -1, (), 0), False), ("now", ((), 90, (), -1), False), ("now", ((), 90, (), 5), True),
+            ("now", ((), 90, (), 6), False),
+        ):
+            plan = put_part(FREED, "meets", ())
+            book = sign_book(plan, 2, word, 0)
+            others = [row for row in book[2] if row[:3] != rows[:3]]
+            self.assertIs(is_sign_book(plan, 2, word, 0, book[:2] + [sorted(others + [rows])]), told, rows)
+
+    def test_rows_of_other_lengths_and_rows_twice(self):
+        for plan, ride, word, notice, book in self.cases():
+            for at, rows in enumerate(book):
+                for row in range(min(2, len(rows))):
+                    for other in (rows[row] + (0,), rows[row][:3], rows[row] + rows[row]):
+                        self.assertIs(is_sign_book(plan, ride, word, notice, put(book, (at, row), other)), False)
+                    less = rows[row][:3] + (rows[row][3] - 1,)
+                    if less[3] >= 0:
+                        twice = put(book, (at,), sorted(rows + [less]))
+                        self.assertIs(is_sign_book(plan, ride, word, notice, twice), False)
 
     def test_stairs_of_rows_that_no_course_comes_to(self):
         # A pair of a later moment than the row's own; what comes of it stands ahead of it.
@@ -501,10 +554,14 @@ class Books(Case):
     def test_nothing_is_let(self):
         # What is heard is beyond the budget from another row on: in a book of "now" it may stand, in one of "least" not.
         plan = put_part(FREED, "heard", (2, 3))
-        for word, row in (("least", ((), 1, 0, 12)), ("now", ((), 0, (), 1))):
+        for word in ("least", "now"):
             book = sign_book(plan, 2, word, 0)
             self.assertIs(is_sign_book(plan, 2, word, 0, book), True)
-            more = put(book, (0,), sorted(book[0] + [row]))
+            held, second, third, last = book[1][0]
+            if word == "least":
+                more = put(book, (1,), book[1] + [(held, 3, third, last)])
+            else:
+                more = put(book, (1,), sorted(book[1] + [(held, 4, third, 3)]))
             self.assertIs(is_sign_book(plan, 2, word, 0, more), word == "now")
 
 
