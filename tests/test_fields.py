@@ -174,6 +174,44 @@ class Steps(Case):
         self.assert_told(((), (16, 23), (0,), ((0, 2),)), step, early, 1, (5, 3), 0)
         self.assert_told(((), (12, 19), (), ()), step, early, 1, (6, 3), 0)
 
+    def test_from_any_standing_by_the_tests_own_reckoning(self):
+        for number in range(150):
+            plan, rng = made(number, rides=9), random.Random(number)
+            bounds = let_bounds(plan)
+            for many in range(len(bounds)):
+                shape, numbers = fields_at(plan, many), {}
+                for field in reversed(shape):
+                    if field[0] == "level":
+                        numbers[field] = rng.randint(0, plan[4][field[1]][3][0])
+                    elif field[0] == "spares":
+                        numbers[field] = rng.randint(0, plan[9][0])
+                    elif field[0] == "left":
+                        numbers[field] = rng.choice([0, 0, 1, 2, 5, 20])
+                    else:
+                        numbers[field] = numbers.get(("left", field[1]), 0) + rng.choice([0, 0, 1, 3, 30])
+                held, delay = tuple(numbers[field] for field in shape), rng.randint(0, bounds[many])
+                self.assertEqual(self.reckoned(plan, many, numbers, delay), step(plan, many, held, delay))
+
+    def reckoned(self, plan, many, numbers, delay):
+        """The step of a day on which all is told but for these numbers."""
+        known = Reckoned(plan, [0] * len(let_bounds(plan)))
+        known.breaks, known.lefts, known.stock = [], [None] * (many + 1), numbers.get(("spares",))
+        for at, ride in enumerate(known.rides[:many]):
+            if ride not in known.off:
+                known.left[ride] = known.told(ride) + numbers.get(("left", at), 0)
+                known.come[ride] = known.told(ride) + known.least(ride) + numbers.get(("end", at), 0)
+        for block, (_, trips, _, _) in enumerate(plan[4]):
+            begun = [trip for trip in trips if (trip, 0) in known.rides[:many]]
+            if ("level", block) in numbers:
+                known.level[begun[-1]] = numbers[("level", block)]
+        ride = known.rides[many]
+        known.delay[ride] = delay
+        known.spared.discard(ride[0])
+        if ride not in known.off:
+            known.go(many, ride)
+        known.lefts.append(known.stock)
+        return step_of(known, fields_at(plan, many + 1), many)
+
     def test_hope_lasts_till_the_feeder_has_left(self):
         # The second rides of both feeders, told to leave at 9: the taker waits till 14 for what leaves at 15 or later.
         for left, leaves in ((2, 12), (4, 13), (5, 14), (6, 14), (90, 14)):
