@@ -552,15 +552,16 @@ class Books(Case):
         plan = plan_of(
             [((0, 1, 2), (5, 5), (0,))], [(0, (0, 5)), (0, (10, 15)), (0, (20, 25))], remedies=((0, ("cut", 1, 0)), (0, ("drop", 2))),
         )
-        way = (0, 0, ("ride", 0, 2, THERE))
-        book = sure_book(plan, way, 10)
-        self.assert_yes(is_sure_book, plan, way, 10, book)
-        for at in range(7):
-            held = book[at][0][0]
-            for place in (("in", 1, 0), ("in", 2, 0), ("at", 1, 0)):
-                self.assertIs(is_sure_book(plan, way, 10, put(book, (at,), sorted(book[at] + [(held, place, 0)]))), False)
-                stays = book[:at] + [sorted(rows + [(rows[0][0], place, 0)]) for rows in book[at:]]
-                self.assertIs(is_sure_book(plan, way, 10, stays), False)
+        for way in ((0, 0, ("ride", 0, 2, THERE)), (0, 0, ("ride", 0, 2, ("walk", 1, THERE)))):
+            book = sure_book(plan, way, 15)
+            self.assert_yes(is_sure_book, plan, way, 15, book)
+            for at in range(7):
+                held = book[at][0][0]
+                for place in (("in", 1, 0), ("in", 2, 0), ("at", 1, 0)):
+                    more = put(book, (at,), sorted(book[at] + [(held, place, 0)]))
+                    self.assertIs(is_sure_book(plan, way, 15, more), False)
+                    stays = book[:at] + [sorted(rows + [(rows[0][0], place, 0)]) for rows in book[at:]]
+                    self.assertIs(is_sure_book(plan, way, 15, stays), False)
 
     def test_tuples_for_lists_and_lists_for_tuples(self):
         for plan, way, minute, book in self.some():
