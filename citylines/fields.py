@@ -32,7 +32,7 @@ def standing(plan, course, many):
     """The standing of the course at many."""
     chart = chart_for(plan, course)
     check_many(many, chart.many)
-    return standing_behind(chart, plain(course[:many]))
+    return standing_behind(chart, course[:many])
 
 
 def step(plan, many, standing, delay):

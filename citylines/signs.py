@@ -1,6 +1,6 @@
 """Signs at stops: what they say, the news of it, and whether they can mislead."""
 
-from citylines.basics import is_count, is_list, is_tuple, is_within, is_word, plain
+from citylines.basics import is_count, is_list, is_tuple, is_within, is_word
 from citylines.books import standing_layers
 from citylines.charts import chart_of
 from citylines.days import chart_for, is_course_of
@@ -45,7 +45,7 @@ def window(plan, course, many, ride):
     chart = chart_for(plan, course)
     check_many(many, chart.many)
     check_run(chart, ride, many)
-    return window_of(chart, plain(course[:many]), ride)
+    return window_of(chart, course[:many], ride)
 
 
 def window_of(chart, prefix, ride):
@@ -61,7 +61,7 @@ def said(plan, course, many, ride, word):
     check_many(many, chart.many)
     check_run(chart, ride, many)
     check_word(word)
-    prefix = plain(course[:many])
+    prefix = course[:many]
     if word == "least":
         return window_of(chart, prefix, ride)[0]
     return Words(chart, ride).now(many, standing_behind(chart, prefix))
@@ -71,7 +71,7 @@ def news(plan, course, ride):
     """The list of the news of the course for the ride: tuples (k, old, new)."""
     chart = chart_for(plan, course)
     check_run(chart, ride, 0)
-    return news_of(chart, plain(course[:ride]), ride)
+    return news_of(chart, course[:ride], ride)
 
 
 def news_of(chart, prefix, ride):
@@ -85,7 +85,7 @@ def news_of(chart, prefix, ride):
 
 def is_late_course(chart, course, ride, notice):
     """Whether some news of the course for the ride come late."""
-    found = news_of(chart, plain(course[:ride]), ride)
+    found = news_of(chart, course[:ride], ride)
     return any([moment_of(walked(chart, course[:many])) + notice > old for many, old, _ in found])
 
 
@@ -136,13 +136,12 @@ def is_misleading(plan, ride, word, notice, value):
     chart = case_of(plan, ride, word, notice)
     if not is_course_of(chart, value):
         return False
-    course = plain(value)
     if word == "least":
-        return is_late_course(chart, course, ride, notice)
+        return is_late_course(chart, value, ride, notice)
     words = Words(chart, ride)
     row = first_now(words)
     for many in range(ride):
-        row = now_behind(words, many, row, [course[many]])[0]
+        row = now_behind(words, many, row, [value[many]])[0]
     return is_misled(row[2], departure_of(chart, ride, row[0]))
 
 
