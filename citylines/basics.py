@@ -69,6 +69,22 @@ def is_time(value):
     return is_count(departure) and is_count(arrival) and departure <= arrival
 
 
+def is_same(value, told):
+    """Whether any value is the told one, of INTEGERS, None, tuples and lists, a tuple standing for a list as well."""
+    if told is None:
+        return value is None
+    if isinstance(told, tuple):
+        return is_tuple(value, len(told), len(told)) and are_same(value, told)
+    if isinstance(told, list):
+        return is_list(value, len(told), len(told)) and are_same(value, told)
+    return is_integer(value) and value == told
+
+
+def are_same(value, told):
+    """Whether each part of the value is the told one, where there are as many."""
+    return all([is_same(part, own) for part, own in zip(value, told)])
+
+
 def plain(value):
     """The same value of tuples, lists, INTEGERS, strings and None, of no class of their own."""
     if isinstance(value, tuple):

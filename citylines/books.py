@@ -39,11 +39,16 @@ def book(plan):
     check_plan(plan)
     chart = chart_of(plan)
     layers = reached_layers(chart)
+    return tables_of(layers) if do_keep(chart, layers) else None
+
+
+def do_keep(chart, layers):
+    """Whether no step from a row of the reached layers breaks a promise."""
     for many in range(chart.many):
         for row, (minutes, _) in layers[many].items():
             if None in kept_behind(chart, many, row, delays_let(chart, many, minutes)):
-                return None
-    return tables_of(layers)
+                return False
+    return True
 
 
 def kept_behind(chart, many, row, delays):

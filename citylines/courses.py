@@ -11,8 +11,13 @@ from citylines.steps import steps_from, walked
 def least_course(plan):
     """The least course of the plan, None if no course is breaking."""
     check_plan(plan)
+    return least_course_of(chart_of(plan))
+
+
+def least_course_of(chart):
+    """The least course of the chart's plan, None if no course is breaking."""
     best = None
-    for course in least_breaks(chart_of(plan)):
+    for course in least_breaks(chart):
         best = lesser(best, course)
     return None if best is None else list(best)
 

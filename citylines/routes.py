@@ -52,6 +52,11 @@ def boarding_hops(line, stop, other):
     return [hop for hop in range(len(line[2])) if stops[hop] == stop and other in stops[hop + 1:]]
 
 
+def alighting_hop(line, first, other):
+    """The first hop of the line, from this one on, that ends at the other stop."""
+    return line[1].index(other, first + 1) - 1
+
+
 def parts_of(plan, stop, route, number):
     """The list of the parts of a route from the stop, of which the first one has this number.
 
@@ -67,7 +72,7 @@ def parts_of(plan, stop, route, number):
     if word == "ride":
         line = plan[2][route[1]]
         first = boarding_hops(line, stop, route[2])[0]
-        last = line[1].index(route[2], first + 1) - 1
+        last = alighting_hop(line, first, route[2])
         change = change_of(plan[1], stop, stop)
         return [(word, route[1], first, last, change, ahead)] + parts_of(plan, route[2], route[3], ahead)
     early = parts_of(plan, stop, route[2], ahead)
