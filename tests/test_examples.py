@@ -1,6 +1,8 @@
 """The examples of the document, just as they stand; names go on from one to the next."""
 
 import doctest
+import os
+import re
 import unittest
 
 BASICS = """
@@ -183,17 +185,144 @@ RIDERS = """
 [25, 39, None, False]
 """
 
+PROFILES = """
+>>> from citylines.profiles import are_same_for_riders, earliest, parting_rider, quick_way, staircase
+>>> [staircase(trio, 0, 2), staircase(trio, 1, 2), staircase(trio, 2, 0)]
+[[(10, 23)], [(18, 23), (30, 35)], [(10, 65)]]
+>>> [earliest(trio, 1, 2, 18), earliest(trio, 1, 2, 19), earliest(trio, 0, 2, 11), arrival(trio, [0, 0, 0], quick_way(trio, 0, 2, 3))]
+[23, 35, None, 23]
+>>> slow = trio[:3] + ((trips[0], ("trip", 1, (19,)), trips[2]),) + trio[4:]
+>>> [are_same_for_riders(trio, trio), parting_rider(trio, slow), earliest(slow, 0, 2, 0)]
+[True, (0, 2, 0), 24]
+"""
+
+REMEDIES = """
+>>> from citylines.plans import with_part
+>>> from citylines.remedies import after, gone, heard_more, is_remedy, is_run, judged, run_hops, waits, waits_that_keep, weighed
+>>> city = ("city", (1, 1, 2), (0, 1, 0), ((0, 5, 9), (5, 0, 4), (9, 4, 0)), ((0, 2, 4), (2, 0, 2), (4, 2, 0)))
+>>> lines = (("line", (0, 1), (10,), (), 5), ("line", (1, 2), (8,), (), 5))
+>>> trips, blocks = (("trip", 0, (0,)), ("trip", 1, (12,))), (("block", (0,), (), None), ("block", (1,), (), None))
+>>> duties, meets = (("duty", ((0, 0, 0),), ()), ("duty", ((1, 0, 0),), ())), (("meet", 0, 0, 1, 0, 3, "news"),)
+>>> room = ("plan", city, lines, trips, blocks, duties, meets, (("leaves", 1, 0, 2), ("meets", 0)), (((9,), (0,)), 9), None, (), ())
+>>> [is_remedy(room, ("wait", 0, 60)), is_remedy(room, ("wait", 0, 61)), is_remedy(room, ("spare", 1, 3)), is_remedy(room, ("drop", 1)), is_remedy(room, ("cut", 1, 0))]
+[True, False, False, True, False]
+>>> late = heard_more(room, [4])
+>>> [late[10:], judged(late), is_remedy(late, ("drop", 0)), is_remedy(late, ("free", 0))]
+[((4,), ()), ([1], [(0, [4, 0])], []), False, True]
+>>> free = after(late, ("free", 0))
+>>> [free[11], judged(free), waits(free), gone(free), is_remedy(free, ("wait", 0, 3))]
+[((1, ('free', 0)),), ([0], [], [1]), [None], [1], False]
+>>> [judged(after(late, ("wait", 0, 2))), weighed(late, ("wait", 0, 2)), weighed(late, ("free", 0))]
+[([0], [(1, [4, 0])], []), ([0], [1], []), ([0], [], [1])]
+>>> [waits_that_keep(room, 0), waits_that_keep(with_part(room, "promises", (("leaves", 1, 0, 2),)), 0)]
+[[], [0, 1, 2]]
+>>> [run_hops(after(room, ("drop", 1))), is_run(after(room, ("drop", 1)), 1), judged(after(room, ("drop", 1)))]
+[[1, 0], False, ([], [], [0, 1])]
+"""
+
+SPARES = """
+>>> from citylines.spares import fewest_blocks, is_apart, is_chains, leads
+>>> three = (("trip", 0, (0,)), ("trip", 1, (12,)), ("trip", 0, (30,)))
+>>> [leads(city, lines, three, 2, 0, 1), leads(city, lines, three, 3, 0, 1), leads(city, lines, three, 3, 0, 2)]
+[True, False, True]
+>>> [[len(part) for part in fewest_blocks(city, lines, three, turn)] for turn in (2, 3, 21)]
+[[1, 1], [2, 2], [3, 3]]
+>>> [is_chains(city, lines, three, 2, [[0, 1, 2]]), is_chains(city, lines, three, 3, [[0, 1, 2]]), is_chains(city, lines, three, 3, [[1], [0, 2]])]
+[True, False, True]
+>>> [is_apart(city, lines, three, 3, [0, 1]), is_apart(city, lines, three, 3, [1, 0]), is_apart(city, lines, three, 3, [0, 2])]
+[True, False, False]
+"""
+
+TICKETS = """
+>>> from citylines.tickets import charges, cheapest, is_cover, is_price_table, price_table
+>>> hour, two, day = ("ticket", 300, 60, (1, 2), 1), ("ticket", 500, 60, (1, 2), 2), ("ticket", 700, 1440, (1, 2), 1)
+>>> there, back = (0, 20, (1, 2)), (70, 90, (1,))
+>>> [cheapest([hour, two, day], [there, there, back, back]), charges([hour, two, day], [there, there, back, back])]
+[1000, [300, 200, 300, 200]]
+>>> [is_cover([hour, two], [there, there], [(1, (0, 1))]), is_cover([hour, two], [there, there], [(0, (0, 1))]), cheapest([hour], [(0, 9, (3,))])]
+[True, False, None]
+>>> [price_table([hour, two], [there, back]), is_price_table([hour, two], [there, back], [0, 300, 200, 500]), is_price_table([hour, two], [there, back], [0, 300, 301, 600])]
+[[0, 300, 300, 600], True, False]
+"""
+
+TAPS = """
+>>> from citylines.taps import bill, charge, do_go, first_free, fitting, refund, taps_of, told_passage, true_passage
+>>> both = [(0, 0, 0), (1, 0, 0)]
+>>> [told_passage(small, (1, 0, 0)), true_passage(small, [3, 0], (1, 0, 0)), do_go(small, [3, 0], both), do_go(small, [5, 0], both)]
+[(12, 20, (1, 2)), (14, 22, (1, 2)), True, False]
+>>> taps_of(small, [3, 0], both)
+[(0, 0, 'in'), (13, 1, 'out'), (14, 1, 'in'), (22, 2, 'out')]
+>>> [fitting(small, [3, 0], [(0, 0, "in"), (22, 2, "out")]), fitting(small, [3, 0], [(13, 0, "in")]), charge(small, [3, 0], [hour], [(14, 1, "in")])]
+[[[(0, 0, 0), (1, 0, 0)]], [], 300]
+>>> account = ("account", (hour, two, day), (tuple(both), ((1, 0, 0),)))
+>>> [bill(small, [3, 0], account), refund(small, [3, 0], account), first_free(small, [3, 0], both)]
+[500, 0, None]
+"""
+
+TEXTS = """
+>>> from citylines.texts import plan_of, plan_text
+>>> rows = ["zones 1 1 2", "changes 0 1 0", "walks 0 5 9", "walks 5 0 4", "walks 9 4 0", "drives 0 2 4", "drives 2 0 2", "drives 4 2 0"]
+>>> rows = rows + ["line 0 1 / 10 / - / 5", "line 1 2 / 8 / - / 5", "trip 0 / 00:00", "trip 1 / 00:12", "block 0 / -", "block 1 / -"]
+>>> rows = rows + ["duty 0 0 0", "duty 1 0 0", "meet 0 0 1 0 3 news", "promise leaves 1 0 2", "bounds 9", "bounds 0", "budget 9"]
+>>> small = plan_of("\\n".join(rows))
+>>> [small[3], small[6:], plan_text(small) == "\\n".join(rows)]
+[(('trip', 0, (0,)), ('trip', 1, (12,))), ((('meet', 0, 0, 1, 0, 3, 'news'),), (('leaves', 1, 0, 2),), (((9,), (0,)), 9), None, (), ()), True]
+"""
+
+CLAIMS = """
+>>> from citylines.claims import contrary, is_claim, is_paper_of, is_true, paper_of, words
+>>> [words()[0], contrary(("keeps", small)) == ("breaks", small), is_true(("keeps", small)), is_true(("breaks", small)), paper_of(("keeps", small))]
+[('keeps', 'breaks'), True, False, True, None]
+>>> [is_paper_of(("breaks", small), value) for value in [[4, 0], [5, 0], [9, 0], (4, 0), [4]]]
+[True, False, False, True, False]
+>>> [is_claim(("keeps", small, 0)), is_claim(("within", [("ticket", 300, 60, (1,), 1)], [(0, 20, (1,))], 300)), is_true(("alike", small, small))]
+[False, True, True]
+>>> [paper_of(("within", [("ticket", 300, 60, (1,), 1)], [(0, 20, (1,))], 300)), is_paper_of(("above", [("ticket", 300, 60, (1,), 1)], [(0, 20, (1,))], 299), [0, 300])]
+[[(0, (0,))], True]
+"""
+
+COMMANDS = """
+>>> from citylines.commands import is_command, is_deed, is_name
+>>> [is_command(line) for line in ["plan p zones", "budget p 3", "budget p 03", "claim k safe p 1 now", "claim k safe p 1 least", "hear p 0,3", "remedy p cut 1 0", "spares p -", "bound p 1 0"]]
+[True, True, False, True, False, True, True, True, False]
+>>> [is_deed("moment p"), is_deed("claim k above t a 300"), is_deed("part p 0"), is_name("a1"), is_name("1a"), is_name("longerthan12x"), is_name("")]
+[False, True, True, True, False, False, False]
+"""
+
+DESK = """
+>>> from citylines.desk import Desk
+>>> desk = Desk()
+>>> desk.do_all("plan p " + "\\n".join(rows), "claim k keeps p", "can p", "least p", "budget p 3", "hear p 3", "next p", "heard p", "moment p")
+['-', 'k false', '0', '4,0', 'k true', '-', '1 0', '0 0 0 13', '0']
+>>> desk.do_all("sign p 1 least", "remedy p free 0", "sign p 1 now", "undo", "late p 1", "copy q p", "claim s same p q", "part q 0", "state s", "drop q", "states")
+['14', '-', '12', 'remedy p free 0', '2', '-', 's true', '-', 'true', 's gone', 'k true, s gone']
+"""
+
 EXAMPLES = [
     ("basics", BASICS), ("cities", CITIES), ("lines", LINES), ("trips", TRIPS), ("blocks", BLOCKS), ("duties", DUTIES),
     ("meets", MEETS), ("plans", PLANS), ("days", DAYS), ("fields", FIELDS), ("books", BOOKS),
     ("courses", COURSES), ("leasts", LEASTS), ("signs", SIGNS), ("riders", RIDERS),
+    ("profiles", PROFILES), ("remedies", REMEDIES), ("spares", SPARES), ("tickets", TICKETS), ("taps", TAPS),
+    ("texts", TEXTS), ("claims", CLAIMS), ("commands", COMMANDS), ("desk", DESK),
 ]
+
+
+README = os.path.join(os.path.dirname(os.path.dirname(os.path.abspath(__file__))), "README.md")
 
 
 class Examples(unittest.TestCase):
     def test_all_in_their_sequence(self):
+        self.assert_examples(EXAMPLES)
+
+    def test_those_of_the_readme(self):
+        with open(README, encoding="utf-8") as file:
+            texts = re.findall(r"^```\n(>>> .*?)^```", file.read(), re.MULTILINE | re.DOTALL)
+        self.assertEqual(3, len(texts))
+        self.assert_examples([("README", text) for text in texts])
+
+    def assert_examples(self, rows):
         names = {}
-        for title, text in EXAMPLES:
+        for title, text in rows:
             example = doctest.DocTestParser().get_doctest(text, names, title, None, 0)
             self.assertTrue(example.examples)
             told = []

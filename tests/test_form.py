@@ -57,6 +57,46 @@ INTERFACE = {
         "surely_by(plan, way)", "late_course(plan, way, minute)", "is_late_course(plan, way, minute, value)",
         "sure_book(plan, way, minute)", "is_sure_book(plan, way, minute, value)",
     ],
+    "profiles": [
+        "staircase(plan, stop, goal)", "earliest(plan, stop, goal, minute)", "quick_way(plan, stop, goal, minute)",
+        "staircases(plan)", "are_staircases(plan, value)", "are_same_for_riders(plan, other)",
+        "parting_rider(plan, other)", "is_parting_rider(plan, other, value)",
+    ],
+    "remedies": [
+        "is_run(plan, ride)", "run_hops(plan)", "waits(plan)", "gone(plan)", "is_remedy(plan, value)",
+        "after(plan, remedy)", "heard_more(plan, counts)", "judged(plan)", "weighed(plan, remedy)",
+        "waits_that_keep(plan, meet)",
+    ],
+    "spares": [
+        "spares_that_keep(plan)", "leads(city, lines, trips, turn, one, other)", "fewest_blocks(city, lines, trips, turn)",
+        "is_chains(city, lines, trips, turn, value)", "is_apart(city, lines, trips, turn, value)",
+    ],
+    "tickets": [
+        "is_ticket(value)", "is_passage(value)", "is_cover(tickets, passages, value)", "cheapest(tickets, passages)",
+        "cheapest_cover(tickets, passages)", "price_table(tickets, passages)",
+        "is_price_table(tickets, passages, value)", "charges(tickets, passages)",
+    ],
+    "taps": [
+        "is_travel(plan, value)", "told_passage(plan, travel)", "true_passage(plan, course, travel)",
+        "do_go(plan, course, travels)", "taps_of(plan, course, travels)", "fitting(plan, course, taps)",
+        "charge(plan, course, tickets, taps)", "is_account(plan, value)", "bill(plan, course, account)",
+        "refund(plan, course, account)", "first_free(plan, course, travels)",
+    ],
+    "texts": ["plan_text(plan)", "plan_of(text)", "way_text(plan, way)", "way_of(plan, text)"],
+    "claims": [
+        "words()", "is_claim(value)", "contrary(claim)", "is_true(claim)", "paper_of(claim)", "is_paper_of(claim, value)",
+    ],
+    "commands": ["is_name(value)", "is_command(value)", "is_deed(value)"],
+    "desk": ["tried(desk, action)"],
+}
+
+# The classes of the interface, with their methods as they are called off an object (`again` off the class).
+CLASSES = {
+    ("desk", "Desk"): [
+        "do(command)", "do_all(*commands)", "attempt(*commands)", "attach(label, paper)", "fits(label)", "lines()", "copy()",
+        "again(lines)", "claim_of(label)", "__call__(command)", "__len__()",
+    ],
+    ("desk", "Trial"): ["__enter__()", "__exit__(kind, value, trace)"],
 }
 
 BUILTINS = """
@@ -114,6 +154,8 @@ def own_methods():
 def bound_in(function):
     """The names that a function binds: its parameters and all that it assigns."""
     names = [argument.arg for argument in function.args.args]
+    if function.args.vararg is not None:
+        names.append(function.args.vararg.arg)
     for node in ast.walk(function):
         if isinstance(node, ast.Lambda):
             names.extend(argument.arg for argument in node.args.args)
@@ -168,9 +210,41 @@ class Form(unittest.TestCase):
                 if isinstance(node, ast.Assign):
                     self.assertEqual(1, len(node.targets))
                     self.assertIsInstance(node.targets[0], ast.Name)
-                    ast.literal_eval(node.value)
+                    self.assert_value(name, node)
             names = [bound for bound, _ in bound_at_top(tree_of(name))]
             self.assertEqual(len(set(names)), len(names), name)
+
+    def assert_value(self, name, node):
+        """What a name at the top is given: a literal, or a dict of functions defined above, in the same file."""
+        if not isinstance(node.value, ast.Dict) or not isinstance(node.value.values[0], ast.Name):
+            ast.literal_eval(node.value)
+            return
+        above = [row.name for row in tree_of(name).body if isinstance(row, ast.FunctionDef) and row.lineno < node.lineno]
+        for key, value in zip(node.value.keys, node.value.values):
+            self.assertIsInstance(key.value, str)
+            self.assertIn(value.id, above, name)
+
+    def test_lists_and_dicts_at_the_top_are_read_alone(self):
+        """They are indexed, asked for, and iterated over; nothing else happens to them."""
+        for name in files():
+            tree = tree_of(name)
+            kept = [node.targets[0].id for node in tree.body if isinstance(node, ast.Assign) and isinstance(node.value, (ast.List, ast.Dict))]
+            told = []
+            for node in ast.walk(tree):
+                if isinstance(node, ast.Subscript) and isinstance(node.ctx, ast.Load):
+                    told.append(node.value)
+                if isinstance(node, ast.Compare) and isinstance(node.ops[0], (ast.In, ast.NotIn)):
+                    told.extend(node.comparators)
+                if isinstance(node, ast.Attribute) and node.attr == "get":
+                    told.append(node.value)
+            for node in ast.walk(tree):
+                if isinstance(node, ast.Name) and isinstance(node.ctx, ast.Load) and node.id in kept:
+                    self.assertIn(node, told, (name, node.id, node.lineno))
+            for node in ast.walk(tree):
+                if isinstance(node, ast.ImportFrom):
+                    self.assertFalse(set(alias.name for alias in node.names) & {"EDITS", "ANSWERS", "MAKERS", "JUDGES"})
+                if isinstance(node, ast.Call) and isinstance(node.func, ast.Subscript):
+                    self.fail((name, node.lineno))
 
     def test_imports_name_the_file_that_defines_and_make_no_circle(self):
         wants = {}
@@ -199,7 +273,8 @@ class Form(unittest.TestCase):
                     self.assertNotIsInstance(node.value, (float, complex, bytes), name)
                     self.assertFalse(isinstance(node.value, str) and "%" in node.value, name)
                 if isinstance(node, ast.FunctionDef):
-                    self.assertEqual([], node.decorator_list, name)
+                    decorators = [own.id for own in node.decorator_list]
+                    self.assertIn(decorators, ([], ["property"], ["classmethod"]), name)
                     self.assertIsNone(node.returns)
                 if isinstance(node, ast.Call) and isinstance(node.func, ast.Attribute):
                     self.assertIn(node.func.attr, METHODS + own_methods(), name)
@@ -219,7 +294,7 @@ class Form(unittest.TestCase):
                     self.assertNotIn(word, barred, (name, function.name))
                     self.assertNotIn(word, OF_PYTHON, (name, function.name))
                 for node in ast.walk(function):
-                    if isinstance(node, ast.Name) and isinstance(node.ctx, ast.Load):
+                    if isinstance(node, ast.Name) and isinstance(node.ctx, ast.Load) and node not in function.decorator_list:
                         self.assertNotEqual("_", node.id, (name, function.name))
                         known = node.id in bound or node.id in top or node.id in BUILTINS
                         self.assertTrue(known, (name, function.name, node.id))
@@ -231,7 +306,7 @@ class Form(unittest.TestCase):
             self.assertNotIn(word, OF_PYTHON)
 
     def test_attributes(self):
-        stored, methods = set(), set(own_methods()) - {"__init__"}
+        stored, methods = set(), {word for word in own_methods() if not word.startswith("__")}
         for name in files():
             for node in ast.walk(tree_of(name)):
                 if isinstance(node, ast.Attribute) and not isinstance(node.ctx, ast.Load):
@@ -262,9 +337,33 @@ class Interface(unittest.TestCase):
                 name, _, parameters = told.strip(")").partition("(")
                 function = getattr(held, name)
                 self.assertEqual("citylines." + module, function.__module__)
-                self.assertEqual(parameters.split(", "), list(inspect.signature(function).parameters), told)
+                self.assertEqual([word for word in parameters.split(", ") if word], list(inspect.signature(function).parameters), told)
                 for parameter in inspect.signature(function).parameters.values():
                     self.assertIs(parameter.default, inspect.Parameter.empty)
+
+    def test_classes_and_their_methods(self):
+        for (module, title), methods in CLASSES.items():
+            kind = getattr(importlib.import_module("citylines." + module), title)
+            self.assertEqual("citylines." + module, kind.__module__)
+            for told in methods:
+                name, _, parameters = told.strip(")").partition("(")
+                # In the body of the class itself.
+                self.assertIn(name, vars(kind))
+                signature = inspect.signature(getattr(kind if name == "again" else object.__new__(kind), name))
+                self.assertEqual([word for word in parameters.split(", ") if word], [str(own) for own in signature.parameters.values()])
+        for name in ("names", "labels"):
+            self.assertIsInstance(vars(importlib.import_module("citylines.desk").Desk)[name], property)
+        self.assertEqual([], list(inspect.signature(importlib.import_module("citylines.desk").Desk).parameters))
+        self.assertEqual(["desk"], list(inspect.signature(importlib.import_module("citylines.desk").Trial).parameters))
+
+    def test_no_class_has_a_word_that_operators_bar(self):
+        for name in files():
+            self.assertFalse(any(word in text_of(name) for word in ("(type)", "Meta", "metaclass=")), name)
+            for node in ast.walk(tree_of(name)):
+                if isinstance(node, ast.Attribute):
+                    self.assertNotIn(node.attr, ("keys", "sort"), name)
+                if isinstance(node, ast.Call) and isinstance(node.func, ast.Name) and node.func.id == "reversed":
+                    self.assertIn(ast.unparse(node.args[0]).partition("(")[0], ("range", "list", "tuple", "sorted"), name)
 
 
 if __name__ == "__main__":

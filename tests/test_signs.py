@@ -8,6 +8,7 @@ from citylines.fields import first_standing, standing, step
 from citylines.plans import is_plan, with_budget
 from citylines.signs import is_misleading, is_sign_book, late_news, misled, moment, news, said, sign_book, window
 from helpers import Case, Few, NO_INTEGERS, OTHERS, listed, paths, put
+from known_signs import Known
 from reckon import Reckoned, all_rides, courses, least_of, let_bounds
 from some_plans import made, put_part, table_sizes, wide
 from told_plans import CASE_B, CASE_D, CHARGED, TWO_FEEDERS, alone, case_e, overview, plan_of
@@ -18,58 +19,6 @@ FREED = plan_of(
     [((0, 1, 2), (5, 5), (0,)), ((3, 0), (5,), ())], [(0, (0, 5)), (1, (12,))], meets=(("meet", 0, 1, 1, 0, 3, "news"),),
     bounds=((3, 3), (0,)), budget=5, walk=1,
 )
-
-
-class Known:
-    """All courses of a plan, and what the signs of one ride say in them, by the definitions."""
-
-    def __init__(self, plan):
-        self.plan = plan
-        self.days = {tuple(course): Reckoned(plan, course) for course in courses(plan)}
-        self.rides = all_rides(plan[3])
-        self.off = next(iter(self.days.values())).off
-
-    def run(self):
-        return [at for at, ride in enumerate(self.rides) if ride not in self.off]
-
-    def leaves(self, course, ride):
-        return self.days[tuple(course)].left[self.rides[ride]]
-
-    def moment(self, course, many):
-        known = self.days[tuple(course)]
-        return max([0] + [known.left[ride] for ride in self.rides[:many] if ride in known.left])
-
-    def window(self, prefix, ride):
-        some = [self.leaves(course, ride) for course in self.days if course[:len(prefix)] == tuple(prefix)]
-        return (min(some), max(some))
-
-    def said(self, prefix, ride, word):
-        if word == "least":
-            return self.window(prefix, ride)[0]
-        rest = tuple(self.plan[10][len(prefix):])
-        course = tuple(prefix) + rest + (0,) * (len(self.rides) - len(prefix) - len(rest))
-        return self.leaves(course, ride)
-
-    def news(self, course, ride):
-        told = [self.said(course[:many], ride, "least") for many in range(ride + 1)]
-        return [(many, told[many - 1], told[many]) for many in range(1, ride + 1) if told[many] > told[many - 1]]
-
-    def misleads(self, course, ride, word, notice):
-        if word == "least":
-            return any(self.moment(course, many) + notice > old for many, old, _ in self.news(course, ride))
-        departure = self.leaves(course, ride)
-        return any(
-            self.moment(course, many) <= departure < self.said(course[:many], ride, word) for many in range(ride + 1)
-        )
-
-    def stairs(self, prefix, ride):
-        """The stairs of a prefix, by the definition, from all its pairs."""
-        course = next(course for course in self.days if course[:len(prefix)] == tuple(prefix))
-        pairs = {(self.moment(course, many), self.said(prefix[:many], ride, "now")) for many in range(len(prefix) + 1)}
-        pairs = {pair for pair in pairs if pair[1] > pair[0]}
-        return tuple(sorted(
-            pair for pair in pairs if not any(other != pair and other[0] <= pair[0] and other[1] >= pair[1] for other in pairs)
-        ))
 
 
 def some(count, **told):
