@@ -69,13 +69,15 @@ def command_of(value):
     if not isinstance(value, str):
         return None
     line = plain(value)
+    first = line.split(" ", 1)[0]
     for form in DEEDS + QUESTIONS:
-        first, kinds = form.split(" ")[0], form.split(" ")[1:]
-        # A text goes on to the end, with blanks of its own.
-        words = line.split(" ", len(kinds)) if kinds[-1:] == ["TEXT"] else line.split(" ")
-        if words[0] == first and are_parts(kinds, words[1:]):
-            parts = [part_told(kind, word) for kind, word in zip(kinds, words[1:])]
-            return Command(line, form in DEEDS, first, kinds, parts)
+        kinds = form.split(" ")[1:]
+        if form.split(" ")[0] == first:
+            # A text goes on to the end, with blanks of its own.
+            words = line.split(" ", len(kinds))[1:] if kinds[-1:] == ["TEXT"] else line.split(" ")[1:]
+            if are_parts(kinds, words):
+                parts = [part_told(kind, word) for kind, word in zip(kinds, words)]
+                return Command(line, form in DEEDS, first, kinds, parts)
     return None
 
 
