@@ -13,18 +13,9 @@ from helpers import Case, Few, NO_INTEGERS, OTHERS, is_plain, put
 from reckon import all_rides
 from riding import hops_of, parts
 from some_plans import made, put_part
-from told_plans import CASE_B, RICH, plan_of
+from told_plans import CASE_B, RICH, TRIO, plan_of
 
 UNSOUND = put_part(CASE_B, "promises", (("driven", 1, 29),))
-# [79]: the plan of the interface.
-TRIO = (
-    "plan", ("city", (1, 1, 1), (2, 2, 2), ((0, 20, 30), (20, 0, 20), (30, 20, 0)), ((0, 4, 6), (4, 0, 4), (6, 4, 0))),
-    (("line", (0, 1), (5,), (), 3), ("line", (1, 2), (5,), (), 3)),
-    (("trip", 0, (10,)), ("trip", 1, (18,)), ("trip", 1, (30,))),
-    (("block", (0,), (), None), ("block", (1,), (), None), ("block", (2,), (), None)),
-    (("duty", ((0, 0, 0),), ()), ("duty", ((1, 0, 0),), ()), ("duty", ((2, 0, 0),), ())),
-    (("meet", 0, 0, 1, 0, 2, "blind"),), (), (((4,), (0,), (0,)), 4), None, (), (),
-)
 
 
 def soonest(plan, stop, goal, minute, most=4):

@@ -13,19 +13,10 @@ from helpers import Case, Few, NO_INTEGERS, OTHERS, listed, part, paths, put
 from reckon import all_rides, courses, least_of, let_bounds
 from riding import Riding, is_route, made_route, made_way, parts
 from some_plans import made, put_part, wide
-from told_plans import CASE_B, overview, plan_of
+from told_plans import CASE_B, TRIO, overview, plan_of
 
 UNSOUND = put_part(CASE_B, "promises", (("driven", 1, 29),))
 THERE = ("there",)
-# [79]: three stops, changes of 2 minutes; a trip of line 0 feeds one of line 1, behind which another one comes.
-TRIO = (
-    "plan", ("city", (1, 1, 1), (2, 2, 2), ((0, 20, 30), (20, 0, 20), (30, 20, 0)), ((0, 4, 6), (4, 0, 4), (6, 4, 0))),
-    (("line", (0, 1), (5,), (), 3), ("line", (1, 2), (5,), (), 3)),
-    (("trip", 0, (10,)), ("trip", 1, (18,)), ("trip", 1, (30,))),
-    (("block", (0,), (), None), ("block", (1,), (), None), ("block", (2,), (), None)),
-    (("duty", ((0, 0, 0),), ()), ("duty", ((1, 0, 0),), ()), ("duty", ((2, 0, 0),), ())),
-    (("meet", 0, 0, 1, 0, 2, "blind"),), (), (((4,), (0,), (0,)), 4), None, (), (),
-)
 WAY = (0, 10, ("ride", 0, 1, ("ride", 1, 2, THERE)))
 LATE = ("ride", 1, 2, THERE)
 

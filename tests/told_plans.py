@@ -86,6 +86,16 @@ def case_e(spares):
     )
 
 
+# [79]: three stops, changes of 2 minutes; a trip of line 0 feeds one of line 1, behind which another one comes.
+TRIO = (
+    "plan", ("city", (1, 1, 1), (2, 2, 2), ((0, 20, 30), (20, 0, 20), (30, 20, 0)), ((0, 4, 6), (4, 0, 4), (6, 4, 0))),
+    (("line", (0, 1), (5,), (), 3), ("line", (1, 2), (5,), (), 3)),
+    (("trip", 0, (10,)), ("trip", 1, (18,)), ("trip", 1, (30,))),
+    (("block", (0,), (), None), ("block", (1,), (), None), ("block", (2,), (), None)),
+    (("duty", ((0, 0, 0),), ()), ("duty", ((1, 0, 0),), ()), ("duty", ((2, 0, 0),), ())),
+    (("meet", 0, 0, 1, 0, 2, "blind"),), (), (((4,), (0,), (0,)), 4), None, (), (),
+)
+
 # With batteries, spares, something heard, a remedy of each kind, meets of both ways, and promises of all kinds.
 RICH = (
     "plan",
